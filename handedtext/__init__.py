@@ -1,0 +1,1 @@
+"""Handedtext: values handed over as text between writers of few digits."""
