@@ -31,6 +31,11 @@ def figure_of(side, value):
     """Return the figure to which a value comes at a side."""
     check_side(side)
     check_value(value)
+    return _figure(side, value)
+
+
+def _figure(side, value):
+    """Return the figure of a value, without a check."""
     offset, step, mode = side
     figure, rest = divmod(value - offset, step)
     if _goes_up(mode, step, figure, rest):
@@ -53,9 +58,15 @@ def _goes_up(mode, step, figure, rest):
 
 def handed(side, value):
     """Return the value for which the figure stands that a side writes for a value."""
-    figure = figure_of(side, value)
+    check_side(side)
+    check_value(value)
+    return written(side, value)
+
+
+def written(side, value):
+    """Return what handed returns, without a check: for loops over sides that have been checked."""
     offset, step, _ = side
-    return offset + step * figure
+    return offset + step * _figure(side, value)
 
 
 def stands(side, value):
@@ -70,6 +81,11 @@ def span(side, figure):
     """Return the least and the greatest value that come to a figure of a side."""
     check_side(side)
     check_value(figure)
+    return _span(side, figure)
+
+
+def _span(side, figure):
+    """Return the span of a figure, without a check."""
     offset, step, mode = side
     value = offset + step * figure
     # What comes to a figure from above comes to it from below in the mirror.
@@ -91,10 +107,15 @@ def back(side, value):
     """Return the threshold of a value: the least value whose handed one is not less than it."""
     check_side(side)
     check_value(value)
+    return threshold(side, value)
+
+
+def threshold(side, value):
+    """Return what back returns, without a check: for loops over sides that have been checked."""
     offset, step, _ = side
     # The least figure that stands for no less than the value: a quotient that is rounded up.
     figure = -((offset - value) // step)
-    least, _ = span(side, figure)
+    least, _ = _span(side, figure)
     return least
 
 

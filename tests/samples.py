@@ -54,3 +54,17 @@ BIG_SIDES = tuple(
     for step in (1, 2, 10 ** 30 - 1, 10 ** 30)
     for mode in MODES
 )
+
+
+def wrong_lists_of_sides():
+    """Return things that are no lists of 1 to 4 sides."""
+    wrong = list(NO_INTEGERS) + [0, 1, -1, 10 ** 199, SIDE, (SIDE,), (SIDE, SIDE), {0: SIDE}, [[SIDE]], [list(SIDE)]]
+    wrong.extend([[SIDE] * 5, [SIDE] * 6, [SIDE] * 1000])
+    for thing in wrong_sides():
+        wrong.extend([[thing], [SIDE, thing], [thing, SIDE], [SIDE, SIDE, SIDE, thing]])
+    return wrong
+
+
+# Sides with steps of thirty digits and offsets of forty, whose steps have no common divisor but 1.
+HUGE = 10 ** 30 - 11
+HUGE_OTHER = 10 ** 30 - 57

@@ -23,6 +23,23 @@ INTERFACE = {
         "text_of": "(figure, places, *, sign=False, group=False, width=0)",
         "read_text": "(text)",
     },
+    "handedtext.units": {
+        "scaled": "(units)",
+    },
+    "handedtext.orders": {
+        "reach": "(sides, value)",
+        "climb": "(sides, value)",
+        "greatest_rise": "(sides)",
+        "unneeded": "(sides)",
+    },
+    "handedtext.ways": {
+        "along": "(sides, numbers, value)",
+        "before": "(sides, value)",
+        "route": "(sides, start, value)",
+    },
+    "handedtext.exchange": {
+        "exchange": "(first, second, value)",
+    },
 }
 
 
@@ -52,6 +69,40 @@ class ExamplesTest(unittest.TestCase):
         self.assertEqual(
             [handed(side, 25), handed(side, 15), span(side, 0), form((-3, 10, 'half_even'))],
             [20, 20, (-5, 5), (17, 10, 'half_even')])
+
+    def test_units(self):
+        from handedtext.units import scaled
+        self.assertEqual(
+            scaled([((0, 1), (1, 100), 'half_up'), ((0, 1), (1, 119), 'half_up')]),
+            (11900, [(0, 119, 'half_up'), (0, 100, 'half_up')]))
+
+    def test_ways(self):
+        from handedtext.ways import along, before, route
+        sides = [(0, 10, 'up'), (3, 10, 'down')]
+        self.assertEqual(
+            [along(sides, [0, 1], 7), before(sides, 10), route(sides, 7, 3), route(sides, 7, 0)],
+            [[10, 3], (1, 12), [1], None])
+
+    def test_orders(self):
+        from handedtext.orders import climb, greatest_rise, reach, unneeded
+        sides = [(0, 10, 'up'), (5, 15, 'up')]
+        self.assertEqual(
+            [reach(sides, 1), climb(sides, 1), greatest_rise(sides), unneeded([(0, 10, 'up'), (0, 5, 'up')])],
+            [(1, 20), ('end', [0, 1]), (29, 21), [1]])
+
+    def test_orders_without_an_end(self):
+        from handedtext.orders import climb, reach
+        three = [(0, 3, 'half_up'), (1, 3, 'half_up'), (2, 3, 'half_up')]
+        self.assertEqual(
+            [reach(three, 0), climb(three, 0), reach([(0, 10, 'up'), (5, 10, 'up')], 1)],
+            [(None, None), ('endless', [1, 2, 0]), (1, None)])
+
+    def test_exchange(self):
+        from handedtext.exchange import exchange
+        tens, hundreds = (0, 10, 'half_up'), (0, 100, 'half_up')
+        self.assertEqual(
+            [exchange(tens, hundreds, 0), exchange((0, 3, 'half_up'), (0, 9, 'half_up'), 0)],
+            [45, None])
 
     def test_readme(self):
         failed, tried = doctest.testfile(str(README), module_relative=False, verbose=False)

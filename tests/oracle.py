@@ -1,0 +1,134 @@
+"""Answers that are found by trying all hand-overs, for sides with small steps."""
+
+import collections
+import math
+import random
+
+from handedtext.sides import handed
+from samples import MODES
+
+
+def period(sides):
+    """Return the common period of some sides."""
+    return math.lcm(*[2 * step if mode == "half_even" else step for _, step, mode in sides])
+
+
+def some_sides(seed, many, most_sides=4, most_step=9, modes=MODES):
+    """Return so many lists of sides with small steps, always the same ones for a seed."""
+    source = random.Random(seed)
+    found = []
+    for _ in range(many):
+        found.append([
+            (source.randint(-20, 20), source.randint(1, most_step), source.choice(modes))
+            for _ in range(source.randint(1, most_sides))
+        ])
+    return found
+
+
+def reached(sides, value, width):
+    """Return the values, told one less and more a width, to which a value comes by any hand-overs among such ones."""
+    seen = {value}
+    open_ones = [value]
+    while open_ones:
+        here = open_ones.pop()
+        for side in sides:
+            there = handed(side, here)
+            if there not in seen and abs(there - value) <= width:
+                seen.add(there)
+                open_ones.append(there)
+    return seen
+
+
+def reach_by_search(sides, value):
+    """Return what reach tells."""
+    many = period(sides)
+    seen = reached(sides, value, 2 * many + 2 * max(step for _, step, _ in sides))
+    least, greatest = min(seen), max(seen)
+    return (None if least <= value - many else least), (None if greatest >= value + many else greatest)
+
+
+def hops_by_search(sides, value):
+    """Return a dict of the values from three periods below a value to as far above it that come to it.
+
+    It tells the fewest hand-overs of each.
+    """
+    width = 3 * period(sides) + 2 * max(step for _, step, _ in sides)
+    sources = collections.defaultdict(list)
+    for start in range(value - width, value + width + 1):
+        for side in sides:
+            sources[handed(side, start)].append(start)
+    hops = {value: 0}
+    row = collections.deque([value])
+    while row:
+        there = row.popleft()
+        for here in sources[there]:
+            if here not in hops:
+                hops[here] = hops[there] + 1
+                row.append(here)
+    return hops
+
+
+def before_by_search(sides, value):
+    """Return what before tells, but for TooMany."""
+    hops = hops_by_search(sides, value)
+    many = period(sides)
+    return (
+        None if value - many in hops else min(hops),
+        None if value + many in hops else max(hops),
+    )
+
+
+def before_is_too_many(sides, value):
+    """Return whether before raises TooMany."""
+    hops = hops_by_search(sides, value)
+    many = period(sides)
+    near = [start for start in hops if abs(start - value) <= many]
+    few = [start for start in near if hops[start] <= 1000]
+    more = [start for start in near if hops[start] <= 1001]
+    return min(more) < min(few) or max(more) > max(few)
+
+
+def routes_by_search(sides, start, width):
+    """Return a dict of the least of the shortest lists of numbers of sides by which start comes to each value."""
+    routes = {start: []}
+    row = collections.deque([start])
+    while row:
+        here = row.popleft()
+        for number, side in enumerate(sides):
+            there = handed(side, here)
+            if there not in routes and abs(there - start) <= width:
+                routes[there] = routes[here] + [number]
+                row.append(there)
+    return routes
+
+
+def greatest_rise_by_search(sides):
+    """Return what greatest_rise tells, but for TooMany."""
+    best = (-1, None)
+    for value in range(period(sides)):
+        _, greatest = reach_by_search(sides, value)
+        if greatest is None:
+            return None
+        if greatest - value > best[0]:
+            best = (greatest - value, value)
+    return best
+
+
+def unneeded_by_search(sides):
+    """Return what unneeded tells, but for TooMany."""
+    if len(sides) == 1:
+        return []
+    found = []
+    for number in range(len(sides)):
+        rest = sides[:number] + sides[number + 1:]
+        if all(reach_by_search(sides, value) == reach_by_search(rest, value) for value in range(period(sides))):
+            found.append(number)
+    return found
+
+
+def exchange_by_search(first, second, value):
+    """Return what exchange tells."""
+    for start in range(value, value + period([first, second])):
+        if handed(second, handed(first, start)) != handed(first, handed(second, start)):
+            return start
+    return None
