@@ -7,6 +7,8 @@ from handedtext.sides import check_side, form, mirror
 
 MOST_SIDES = 4
 
+MOST_HANDOVERS = 1000
+
 
 def check_sides(sides):
     """Raise InvalidSides if a thing is no list of 1 to 4 sides."""

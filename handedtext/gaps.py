@@ -104,10 +104,11 @@ def _longest_overhangs(across, end, step, narrow):
     """
     _, most, period = narrow
     shared = gcd(step, period)
-    turns = sorted([0, most + 1, -across % period, (most + 1 - across) % period, period])
+    turns = sorted([0, most + 1, (most + 1 - across) % period, period])
     found = []
     for number in range(len(turns) - 1):
-        # Between two turns the overhang grows, falls or stays, so its greatest values stand at the ends.
+        # Between two turns the overhang falls and is none then, or stays and grows then: its greatest values stand at
+        # an end, or everywhere.
         low = turns[number] + (end - turns[number]) % shared
         high = turns[number + 1] - 1
         high = high - (high - end) % shared

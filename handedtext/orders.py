@@ -1,13 +1,11 @@
 """How far values come among some sides, in any order of hand-overs."""
 
-from handedtext.among import check_sides, common_period, mirrors, raisers
+from handedtext.among import MOST_HANDOVERS, check_sides, common_period, mirrors, raisers
 from handedtext.blocks import first_in_both, unraised
 from handedtext.checks import check_value
 from handedtext.errors import TooMany
 from handedtext.gaps import widest_gap, widest_gap_of_both
 from handedtext.sides import form, written
-
-MOST_HANDOVERS = 1000
 
 MOST_PERIOD = 100000
 

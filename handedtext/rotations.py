@@ -13,13 +13,13 @@ def first_hit(start, step, most, modulus):
 def _first_between(step, least, greatest, modulus):
     """Return the least k for which the remainder of step * k is one of some greater than 0, or None.
 
-    The modulus is at least halved for each call within this one, so there are few of them.
+    The modulus is at least halved for each call within this one, so there are about a hundred at most.
     """
     if step == 0:
         return None
     if 2 * step > modulus:
         # Seen from the other side the steps are shorter.
-        return _first_between(modulus - step, modulus - greatest, modulus - least, modulus)
+        step, least, greatest = modulus - step, modulus - greatest, modulus - least
     many = -(-least // step)
     if step * many <= greatest:
         return many

@@ -1,11 +1,9 @@
 """Ways of hand-overs: where they lead, and from where a value can have come."""
 
-from handedtext.among import check_sides, common_period
+from handedtext.among import MOST_HANDOVERS, check_sides, common_period
 from handedtext.checks import check_value, is_int_between
 from handedtext.errors import InvalidNumbers, TooMany
 from handedtext.sides import threshold, written
-
-MOST_HANDOVERS = 1000
 
 
 def along(sides, numbers, value):

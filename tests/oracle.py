@@ -78,10 +78,8 @@ def before_by_search(sides, value):
     )
 
 
-def before_is_too_many(sides, value):
-    """Return whether before raises TooMany."""
-    hops = hops_by_search(sides, value)
-    many = period(sides)
+def before_is_too_many(hops, value, many):
+    """Return whether before raises TooMany, by what hops_by_search tells, for sides with so long a common period."""
     near = [start for start in hops if abs(start - value) <= many]
     few = [start for start in near if hops[start] <= 1000]
     more = [start for start in near if hops[start] <= 1001]

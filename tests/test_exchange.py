@@ -72,7 +72,8 @@ class ExchangeTest(unittest.TestCase):
             self.check(first, second, value, answer)
         first, second = (0, 10 ** 30, "half_even"), (10 ** 30, 10 ** 30, "half_up")
         half = 5 * 10 ** 29
-        for value, answer in ((0, half), (half, half), (half + 1, half + 2 * 10 ** 30), (10 ** 30, half + 2 * 10 ** 30)):
+        later = half + 2 * 10 ** 30
+        for value, answer in ((0, half), (half, half), (half + 1, later), (10 ** 30, later)):
             self.check(first, second, value, answer)
 
     def test_equal_sides_and_sides_that_write_alike(self):
@@ -80,8 +81,9 @@ class ExchangeTest(unittest.TestCase):
             for value in (0, 5, 10 ** 199, -10 ** 199):
                 self.check(side, side, value, None)
         for first, second in (
-                ((0, 10, "up"), (20, 10, "up")), ((0, 7, "half_up"), (7, 7, "half_even")), ((0, 1, "up"), (9, 1, "down")),
-                ((0, 2, "half_up"), (2, 2, "up")), ((1, HUGE, "half_down"), (1 - 3 * HUGE, HUGE, "half_up")),
+                ((0, 10, "up"), (20, 10, "up")), ((0, 7, "half_up"), (7, 7, "half_even")),
+                ((0, 1, "up"), (9, 1, "down")), ((0, 2, "half_up"), (2, 2, "up")),
+                ((1, HUGE, "half_down"), (1 - 3 * HUGE, HUGE, "half_up")),
                 ((0, 10, "half_even"), (-20, 10, "half_even"))):
             self.assertEqual(form(first), form(second))
             for value in range(-20, 21):

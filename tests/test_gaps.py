@@ -69,7 +69,8 @@ class BlocksTest(unittest.TestCase):
                 self.assertEqual(found, min(told for told in range(value, value + one[2]) if holds(one, told)))
         for one, other in itertools.product(blocks, repeat=2):
             for value in (-5, 0, 7):
-                told = [here for here in range(value, value + one[2] * other[2]) if holds(one, here) and holds(other, here)]
+                end = value + one[2] * other[2]
+                told = [here for here in range(value, end) if holds(one, here) and holds(other, here)]
                 self.assertEqual(first_in_both(one, other, value), told[0] if told else None, (one, other, value))
 
 
@@ -86,8 +87,8 @@ class GapsTest(unittest.TestCase):
             if steps[0] == steps[1] or max(steps) < 5:
                 continue
             for modes in itertools.product(("up", "half_down", "half_up"), repeat=2):
-                for offset in range(max(steps)):
-                    sides = [(offset, steps[0], modes[0]), (-1, steps[1], modes[1])]
+                for offset, other in itertools.product(range(steps[0]), range(-1, steps[1] - 1, 3)):
+                    sides = [(offset, steps[0], modes[0]), (other, steps[1], modes[1])]
                     if "down" in [form(side)[2] for side in sides]:
                         continue
                     blocks = [unraised(side)[0] for side in sides]

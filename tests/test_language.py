@@ -118,6 +118,41 @@ class LanguageTest(unittest.TestCase):
                     self.assertEqual(package, "handedtext", path)
                     self.assertLessEqual(set(names), set(defined[module]), path)
 
+    def test_names_from_the_library_are_called_on_the_spot(self):
+        for path, tree in trees():
+            told = set()
+            for node in tree.body:
+                if isinstance(node, ast.ImportFrom) and node.module in LIBRARY:
+                    told.update(alias.name for alias in node.names)
+            calls = [node for node in ast.walk(tree) if isinstance(node, ast.Call)]
+            heads = [call.func for call in calls if not call.keywords]
+            for node in ast.walk(tree):
+                if isinstance(node, ast.Name) and node.id in told:
+                    self.assertIn(node, heads, path)
+            for call in calls:
+                if isinstance(call.func, ast.Name) and call.func.id in told:
+                    self.assertFalse([thing for thing in call.args if isinstance(thing, ast.Starred)], path)
+
+    def test_no_local_name_is_that_of_an_import_or_a_class(self):
+        for path, tree in trees():
+            barred = set()
+            for node in tree.body:
+                if isinstance(node, ast.ImportFrom):
+                    barred.update(alias.name for alias in node.names)
+                if isinstance(node, ast.ClassDef):
+                    barred.add(node.name)
+            for node in ast.walk(tree):
+                if isinstance(node, ast.arg):
+                    self.assertNotIn(node.arg, barred, path)
+                if isinstance(node, ast.Name) and isinstance(node.ctx, ast.Store):
+                    self.assertNotIn(node.id, barred, path)
+
+    def test_no_generators_beside_classes_that_compare(self):
+        # Some rules bar them only beside classes with `__eq__`, which the package is going to have.
+        for path, tree in trees():
+            for node in ast.walk(tree):
+                self.assertNotIsInstance(node, ast.GeneratorExp, path)
+
     def test_no_file_imports_from_itself_through_others(self):
         imports = {
             "handedtext." + path.stem: {node.module for node in tree.body if isinstance(node, ast.ImportFrom)}

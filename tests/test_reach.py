@@ -94,7 +94,8 @@ class ReachTest(unittest.TestCase):
 
     def test_thirty_digits_with_one_side(self):
         step = HUGE + 1
-        for mode, rises in (("down", False), ("up", True), ("half_down", False), ("half_up", True), ("half_even", True)):
+        for mode in MODES:
+            rises = mode in ("up", "half_up", "half_even")
             for offset in (10 ** 40, -10 ** 40, 7):
                 side = (offset, step, mode)
                 start = offset + 3 * step

@@ -60,8 +60,8 @@ class GreatestRiseTest(unittest.TestCase):
 
     def test_thirty_digits(self):
         for one, other in itertools.product(("up", "half_down", "half_up", "half_even"), repeat=2):
-            for steps in ((HUGE, HUGE_OTHER), (HUGE_OTHER, HUGE), (HUGE, 3), (1001, HUGE), (317, 331), (3 ** 60, 7 ** 35),
-                          (10 ** 15 + 1, 10 ** 30 - 1), (10 ** 6 + 1, 3 * 10 ** 6 + 3)):
+            for steps in ((HUGE, HUGE_OTHER), (HUGE_OTHER, HUGE), (HUGE, 3), (1001, HUGE), (317, 331),
+                          (3 ** 60, 7 ** 35), (10 ** 15 + 1, 10 ** 30 - 1), (10 ** 6 + 1, 3 * 10 ** 6 + 3)):
                 for offset in (10 ** 40, 5, -10 ** 39 + 1):
                     if "up" in (one, other):
                         # So there are values that stand on both sides.
@@ -70,14 +70,16 @@ class GreatestRiseTest(unittest.TestCase):
 
     def test_thirty_digits_with_even_steps(self):
         for one, other in itertools.product(("up", "half_down", "half_up"), repeat=2):
-            for steps in ((HUGE - 1, HUGE_OTHER), (10 ** 30, 10 ** 30 - 2), (10 ** 30, 2), (2 ** 90, 6 ** 30), (4, HUGE - 5)):
+            for steps in (
+                    (HUGE - 1, HUGE_OTHER), (10 ** 30, 10 ** 30 - 2), (10 ** 30, 2), (2 ** 90, 6 ** 30), (4, HUGE - 5)):
                 self.check_long_period([(10 ** 40, steps[0], one), (0, steps[1], other)])
 
     def test_middle_periods_against_all_values(self):
         # The common period is just more than 100,000, so that all values of it can be looked at.
         source = random.Random(8)
         for _ in range(12):
-            steps = source.choice([(317, 331), (331, 317), (101, 1009), (1500, 337), (2, 50021), (50021, 3), (600, 1001)])
+            steps = source.choice([
+                (317, 331), (331, 317), (101, 1009), (1500, 337), (2, 50021), (50021, 3), (600, 1001)])
             modes = [source.choice(("up", "half_down", "half_up")) for _ in range(2)]
             modes = [mode if step > 2 else "up" for mode, step in zip(modes, steps)]
             sides = [(source.randint(-999, 999), step, mode) for step, mode in zip(steps, modes)]

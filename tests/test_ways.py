@@ -141,7 +141,7 @@ class BeforeTest(unittest.TestCase):
             hops = hops_by_search(sides, value)
             self.assertEqual(max(hops.values()), many)
             self.assertEqual((min(hops), max(hops)), (1, value))
-            self.assertEqual(before_is_too_many(sides, value), many > 1000)
+            self.assertEqual(before_is_too_many(hops, value, 31 * 37 * 41), many > 1000)
         self.assertEqual(before(SLOW, 25389), (1, 25389))
         self.assertEqual(before(mirrored(SLOW), -25389), (-25389, -1))
         for sides, value in ((SLOW, 25420), (mirrored(SLOW), -25420), (SLOW, 31 * 37 * 41)):
@@ -153,7 +153,7 @@ class BeforeTest(unittest.TestCase):
             hops = hops_by_search(ENDLESS, value)
             self.assertEqual(max(told for start, told in hops.items() if abs(start - value) <= 1500), many)
             self.assertIn(value - 1500, hops)
-            self.assertEqual(before_is_too_many(ENDLESS, value), many > 1000)
+            self.assertEqual(before_is_too_many(hops, value, 1500), many > 1000)
         self.assertEqual(before(ENDLESS, 1), (None, 1499))
         self.assertEqual(before(mirrored(ENDLESS), -1), (-1499, None))
         for sides in (ENDLESS, mirrored(ENDLESS)):
