@@ -2,8 +2,8 @@
 
 from math import lcm
 
-from handedtext.errors import InvalidSide, InvalidSides
-from handedtext.sides import check_side, form, mirror
+from handedtext.errors import InvalidSides
+from handedtext.sides import form, is_side, mirror, written
 
 MOST_SIDES = 4
 
@@ -15,10 +15,8 @@ def check_sides(sides):
     if not isinstance(sides, list) or not 1 <= len(sides) <= MOST_SIDES:
         raise InvalidSides("sides are a list of 1 to 4 sides")
     for side in sides:
-        try:
-            check_side(side)
-        except InvalidSide:
-            raise InvalidSides("an item of the sides is no side") from None
+        if not is_side(side):
+            raise InvalidSides("an item of the sides is no side")
 
 
 def period_of(side):
@@ -47,6 +45,11 @@ def _raises_some(side):
     _, _, mode = form(side)
     # A side that raises none writes what one with its step that always goes down writes.
     return mode != "down"
+
+
+def highest(sides, value):
+    """Return the greatest one of a value and what some sides write for it."""
+    return max([value] + [written(side, value) for side in sides])
 
 
 def mirrors(sides):

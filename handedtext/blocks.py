@@ -1,4 +1,4 @@
-"""Blocks of neighbouring values that come again in each period: those that a side does not raise.
+"""Blocks of neighbouring values that come again in each period: those that a side does not raise, or not so far.
 
 A block (start, most, period) holds the values that are greater than start, by their remainder, by at most most.
 """
@@ -8,15 +8,18 @@ from handedtext.rotations import first_hit
 from handedtext.sides import span
 
 
-def unraised(side):
-    """Return the blocks of the values that a side does not raise: for each figure of a period, those from its value."""
+def unraised(side, least=1):
+    """Return the blocks of the values that a side does not raise by as much as the least rise, which is 1 or more.
+
+    There is one for each figure of a period: those of its span that are not too far below its value.
+    """
     offset, step, _ = side
     period = period_of(side)
     blocks = []
     for figure in range(period // step):
-        start = offset + step * figure
-        _, greatest = span(side, figure)
-        blocks.append((start, greatest - start, period))
+        low, high = span(side, figure)
+        start = max(low, offset + step * figure - least + 1)
+        blocks.append((start, high - start, period))
     return blocks
 
 

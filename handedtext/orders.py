@@ -1,6 +1,6 @@
 """How far values come among some sides, in any order of hand-overs."""
 
-from handedtext.among import MOST_HANDOVERS, check_sides, common_period, mirrors, raisers
+from handedtext.among import MOST_HANDOVERS, check_sides, common_period, highest, mirrors, raisers
 from handedtext.blocks import first_in_both, unraised
 from handedtext.checks import check_value
 from handedtext.errors import TooMany
@@ -39,7 +39,7 @@ def _first_unraised(raising, value):
     # No hand-over leads past a value that no side raises, so it is enough to go up as far as a period.
     end = value + common_period(raising)
     while value < end:
-        worth = max([value] + [written(side, value) for side in raising])
+        worth = highest(raising, value)
         if worth == value:
             return value
         value = worth
@@ -93,7 +93,7 @@ def greatest_rise(sides):
 
 def _greatest_rise_by_trial(raising, many):
     """Return what greatest_rise tells, found among all values of a period."""
-    ends = [value for value in range(many) if max([value] + [written(side, value) for side in raising]) == value]
+    ends = [value for value in range(many) if highest(raising, value) == value]
     if not ends:
         return None
     found = []

@@ -27,6 +27,15 @@ def check_side(side):
         raise InvalidSide("a mode is one of down, up, half_down, half_up, half_even")
 
 
+def is_side(thing):
+    """Return whether a thing is a side."""
+    try:
+        check_side(thing)
+    except InvalidSide:
+        return False
+    return True
+
+
 def figure_of(side, value):
     """Return the figure to which a value comes at a side."""
     check_side(side)

@@ -3,8 +3,8 @@
 from math import gcd, lcm
 
 from handedtext.checks import is_int
-from handedtext.errors import InvalidSide, InvalidUnits, TooMany
-from handedtext.sides import MODES, check_side
+from handedtext.errors import InvalidUnits, TooMany
+from handedtext.sides import MODES, is_side
 
 MOST_UNITS = 8
 
@@ -17,10 +17,8 @@ def scaled(units):
         parts = lcm(parts, _lowest_denominator(offset), _lowest_denominator(step))
     sides = [(_times(parts, offset), _times(parts, step), mode) for offset, step, mode in units]
     for side in sides:
-        try:
-            check_side(side)
-        except InvalidSide:
-            raise TooMany("an offset or a step is too large for a side") from None
+        if not is_side(side):
+            raise TooMany("an offset or a step is too large for a side")
     return parts, sides
 
 

@@ -41,9 +41,27 @@ def route(sides, start, value):
     check_value(start)
     check_value(value)
     runs = _runs(sides, value)
+    many = _fewest(sides, start, value, runs)
+    if many is None:
+        return None
+    return _way(sides, start, runs[:many])
+
+
+def can_come(sides, start, value):
+    """Return whether a value can come to another one, without a check; TooMany as before, but not for equal ones."""
+    return start == value or _holds(before(sides, value), start)
+
+
+def fewest_handovers(sides, start, value):
+    """Return how many hand-overs route tells, or None, without a check."""
+    return _fewest(sides, start, value, _runs(sides, value))
+
+
+def _fewest(sides, start, value, runs):
+    """Return by how few hand-overs start comes to a value, whose runs are told, or None."""
     for many, run in enumerate(runs[:MOST_HANDOVERS + 1]):
         if _holds(run, start):
-            return _way(sides, start, runs[:many])
+            return many
     if _holds(_ends(sides, value, runs), start):
         raise TooMany("there are more than 1,000 hand-overs, or no way")
     return None

@@ -1,6 +1,7 @@
 """Answers that are found by trying all hand-overs, for sides with small steps."""
 
 import collections
+import itertools
 import math
 import random
 
@@ -122,6 +123,96 @@ def unneeded_by_search(sides):
         if all(reach_by_search(sides, value) == reach_by_search(rest, value) for value in range(period(sides))):
             found.append(number)
     return found
+
+
+def settled_by_search(first, second, value):
+    """Return what settled tells."""
+    many = period([first, second])
+    values = [handed(first, value)]
+    # From a value that moves only in one direction, a period of rounds leads past each other one.
+    while len(values) <= 2 * many + 2:
+        following = handed(first, handed(second, values[-1]))
+        if following == values[-1]:
+            return "settles", following, len(values) - 1
+        values.append(following)
+    moved, rest = divmod(values[-1] - values[-1 - many], many)
+    assert rest == 0
+    return "creeps", moved
+
+
+def within_by_search(sides, value, many):
+    """Return what within tells, but for TooMany."""
+    seen = {value}
+    latest = seen
+    for _ in range(many):
+        latest = {handed(side, here) for here in latest for side in sides} - seen
+        if not latest:
+            break
+        seen = seen | latest
+    return min(seen), max(seen)
+
+
+def efforts_by_search(sides, value):
+    """Return what efforts tells."""
+    routes = routes_by_search(sides, value, 2 * period(sides) + 2 * max(step for _, step, _ in sides))
+    return tuple(None if end is None else len(routes[end]) for end in reach_by_search(sides, value))
+
+
+def meeting_by_search(sides, one, other):
+    """Return what meeting tells, by all pairs of remainders and differences."""
+    many = period(sides)
+    seen = {(one % many, other - one)}
+    row = collections.deque([(one, other, [])])
+    while row:
+        one, other, numbers = row.popleft()
+        if one == other:
+            return numbers
+        for number, side in enumerate(sides):
+            pair = handed(side, one), handed(side, other)
+            alike = pair[0] % many, pair[1] - pair[0]
+            if alike not in seen:
+                seen.add(alike)
+                row.append((*pair, numbers + [number]))
+    return None
+
+
+def fewest_places_by_search(sides, side):
+    """Return what fewest_places tells."""
+    offset, step, mode = side
+    for places in range(5):
+        if step % 10 ** places == 0:
+            more = sides + [(offset, step // 10 ** places, mode)]
+            if all(reach_by_search(more, value) == reach_by_search(sides, value) for value in range(period(more))):
+                return places
+    return None
+
+
+def once_by_search(sides, value):
+    """Return what once tells."""
+    ends = {}
+    for order in itertools.permutations(range(len(sides))):
+        end = value
+        for number in order:
+            end = handed(sides[number], end)
+        ends.setdefault(end, list(order))
+    return sorted(ends.items())
+
+
+def order_matters_by_search(sides, value):
+    """Return what order_matters tells."""
+    for start in range(value, value + period(sides)):
+        if len(once_by_search(sides, start)) > 1:
+            return start
+    return None
+
+
+def calm_by_search(sides):
+    """Return what calm tells."""
+    for many in range(len(sides) + 1):
+        for numbers in itertools.combinations(range(len(sides)), many):
+            rest = [side for number, side in enumerate(sides) if number not in numbers]
+            if None not in reach_by_search(rest, 0):
+                return list(numbers)
 
 
 def exchange_by_search(first, second, value):

@@ -2,6 +2,8 @@
 
 import itertools
 
+from handedtext.sides import mirror
+
 
 def nested(levels):
     """Return a list of lists, so many levels deep."""
@@ -63,6 +65,15 @@ def wrong_lists_of_sides():
     for thing in wrong_sides():
         wrong.extend([[thing], [SIDE, thing], [thing, SIDE], [SIDE, SIDE, SIDE, thing]])
     return wrong
+
+
+# To 25389 some values come by 1,000 hand-overs and none by more, to 25420 some by 1,001.
+SLOW = [(0, 31, "up"), (0, 37, "up"), (0, 41, "up")]
+
+
+def mirrored(sides):
+    """Return the mirrors of some sides."""
+    return [mirror(side) for side in sides]
 
 
 # Sides with steps of thirty digits and offsets of forty, whose steps have no common divisor but 1.

@@ -40,6 +40,25 @@ INTERFACE = {
     "handedtext.exchange": {
         "exchange": "(first, second, value)",
     },
+    "handedtext.logs": {
+        "fault": "(sides, seen)",
+        "hops": "(sides, seen)",
+    },
+    "handedtext.backs": {
+        "settled": "(first, second, value)",
+        "pace": "(first, second)",
+    },
+    "handedtext.limits": {
+        "within": "(sides, value, many)",
+        "efforts": "(sides, value)",
+        "meeting": "(sides, one, other)",
+        "fewest_places": "(sides, side)",
+    },
+    "handedtext.once": {
+        "once": "(sides, value)",
+        "order_matters": "(sides, value)",
+        "calm": "(sides)",
+    },
 }
 
 
@@ -103,6 +122,28 @@ class ExamplesTest(unittest.TestCase):
         self.assertEqual(
             [exchange(tens, hundreds, 0), exchange((0, 3, 'half_up'), (0, 9, 'half_up'), 0)],
             [45, None])
+
+    def test_logs(self):
+        from handedtext.logs import fault, hops
+        sides = [(0, 10, 'up'), (3, 10, 'down')]
+        self.assertEqual(
+            [fault(sides, [7, 10, 3, 10, 13, 20]), hops(sides, [7, 10, 3, 10])],
+            [4, [1, 1, 1]])
+
+    def test_backs(self):
+        from handedtext.backs import pace, settled
+        self.assertEqual(
+            [settled((0, 10, 'up'), (0, 4, 'up'), 1), settled((0, 4, 'down'), (1, 6, 'down'), 0),
+             pace((0, 4, 'down'), (1, 6, 'down'))],
+            [('settles', 20, 1), ('creeps', -6), -6])
+
+    def test_limits(self):
+        from handedtext.limits import fewest_places, meeting, within
+        sides = [(0, 10, 'up'), (3, 10, 'down')]
+        self.assertEqual(
+            [within(sides, 7, 1), within(sides, 7, 2), meeting(sides, 4, 11),
+             fewest_places([(0, 10, 'half_up')], (0, 100, 'half_up'))],
+            [(3, 10), (3, 10), [1], 1])
 
     def test_readme(self):
         failed, tried = doctest.testfile(str(README), module_relative=False, verbose=False)

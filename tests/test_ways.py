@@ -5,23 +5,15 @@ import random
 import unittest
 
 from handedtext.errors import InvalidNumbers, InvalidValue, TooMany
-from handedtext.sides import handed, mirror
+from handedtext.sides import handed
 from handedtext.ways import along, before, route
 from oracle import before_by_search, before_is_too_many, hops_by_search, period, routes_by_search, some_sides
-from samples import HUGE, HUGE_OTHER, NO_INTEGERS, SIDE
+from samples import HUGE, HUGE_OTHER, NO_INTEGERS, SIDE, SLOW, mirrored
 
 SIDES = [(0, 10, "up"), (3, 10, "down")]
 
-# To 25389 some values come by 1,000 hand-overs and none by more, to 25420 some by 1,001.
-SLOW = [(0, 31, "up"), (0, 37, "up"), (0, 41, "up")]
-
 # The value that is less by the common period comes to 1 by 1,000 hand-overs, to 0 by 1,001.
 ENDLESS = [(0, 2, "up"), (1, 2, "up"), (1, 3, "up"), (0, 1500, "down")]
-
-
-def mirrored(sides):
-    """Return the mirrors of some sides."""
-    return [mirror(side) for side in sides]
 
 
 def turned(ends):
