@@ -27,6 +27,12 @@ def period_of(side):
     return step
 
 
+def moved(side, by):
+    """Return the side that does to x + by what a side does to x; its offset is one of those below its period."""
+    offset, step, mode = side
+    return (offset + by) % period_of(side), step, mode
+
+
 def common_period(sides):
     """Return the least common multiple of the periods of some sides, 1 of none."""
     many = 1

@@ -4,7 +4,7 @@ from handedtext.among import check_sides, common_period, highest, mirrors, raise
 from handedtext.backs import rounds_up, wide_and_narrow
 from handedtext.checks import check_value, is_int_between
 from handedtext.errors import InvalidNumber, InvalidSides, TooMany
-from handedtext.orders import MOST_PERIOD_OF_ALL, reach, unneeded
+from handedtext.orders import reach, unneeded
 from handedtext.sides import check_side, stands, written
 
 MOST_NUMBER = 10 ** 40
@@ -136,10 +136,9 @@ def fewest_places(sides, side):
     if len(sides) > MOST_SIDES_AHEAD:
         raise InvalidSides("sides ahead of a further one are a list of 1 to 3 sides")
     check_side(side)
-    if common_period(sides + [side]) > MOST_PERIOD_OF_ALL:
-        raise TooMany("the common period is more than 20,000")
     offset, step, mode = side
     places = 0
+    # The period is longest for the side itself, so that the first call tells whether there is too much to look at.
     while len(sides) not in unneeded(sides + [(offset, step, mode)]):
         if step % 10 != 0:
             return None

@@ -121,11 +121,10 @@ def back(side, value):
 
 def threshold(side, value):
     """Return what back returns, without a check: for loops over sides that have been checked."""
-    offset, step, _ = side
+    offset, step, mode = side
     # The least figure that stands for no less than the value: a quotient that is rounded up.
     figure = -((offset - value) // step)
-    least, _ = _span(side, figure)
-    return least
+    return offset + step * figure - _below(mode, step, figure)
 
 
 def mirror(side):

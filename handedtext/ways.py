@@ -1,6 +1,6 @@
 """Ways of hand-overs: where they lead, and from where a value can have come."""
 
-from handedtext.among import MOST_HANDOVERS, check_sides, common_period
+from handedtext.among import MOST_HANDOVERS, check_sides, common_period, moved
 from handedtext.checks import check_value, is_int_between
 from handedtext.errors import InvalidNumbers, TooMany
 from handedtext.sides import threshold, written
@@ -48,7 +48,7 @@ def route(sides, start, value):
 
 
 def can_come(sides, start, value):
-    """Return whether a value can come to another one, without a check; TooMany as before, but not for equal ones."""
+    """Return whether a value can come to another one; for unlike ones with the errors of before."""
     return start == value or _holds(before(sides, value), start)
 
 
@@ -72,13 +72,15 @@ def _runs(sides, value):
 
     There are no more behind a run that does not grow, nor behind that of 1,001 hand-overs.
     """
-    runs = [(value, value)]
+    # Seen from the value, the numbers are short even where the value is long.
+    near = [moved(side, -value) for side in sides]
+    runs = [(0, 0)]
     for many in range(MOST_HANDOVERS + 1):
-        run = _widened(sides, runs[many])
+        run = _widened(near, runs[many])
         if run == runs[many]:
-            return runs
+            break
         runs.append(run)
-    return runs
+    return [(value + least, value + greatest) for least, greatest in runs]
 
 
 def _widened(sides, run):

@@ -59,7 +59,69 @@ INTERFACE = {
         "order_matters": "(sides, value)",
         "calm": "(sides)",
     },
+    "handedtext.papers": {
+        "paper_text": "(entries)",
+        "read_paper": "(text)",
+        "log_of": "(entries, name)",
+        "text_at": "(entries, name, value)",
+    },
+    "handedtext.desk": {
+        "try_all": "(trace, deeds)",
+    },
+    "handedtext.rests": {
+        "outcomes": "(sides, value)",
+        "rests": "(sides, value)",
+    },
 }
+
+CLASSES = {
+    "handedtext.values": {
+        "Side": {
+            "__init__": "(self, data)", "data": None, "__call__": "(self, value)", "__getitem__": "(self, figure)",
+            "__contains__": "(self, value)", "__eq__": "(self, other)", "__neg__": "(self)", "__or__": "(self, other)",
+        },
+        "Sides": {
+            "__init__": "(self, sides)", "sides": None, "__call__": "(self, value)", "__getitem__": "(self, value)",
+            "lead_to": "(self, start, value)", "__contains__": "(self, side)", "__len__": "(self)",
+            "__eq__": "(self, other)", "__neg__": "(self)", "__or__": "(self, other)", "__sub__": "(self, other)",
+        },
+    },
+    "handedtext.desk": {
+        "Trace": {
+            "__init__": "(self, sides)", "see": "(self, value)", "slip": "(self, number, value)",
+            "drop": "(self, number)", "undo": "(self)", "redo": "(self)", "starts": "(self)",
+            "allows": "(self, value)", "trial": "(self)", "__getitem__": "(self, number)", "__len__": "(self)",
+            "__contains__": "(self, value)",
+        },
+    },
+}
+
+SIDES = [(0, 10, "up"), (3, 10, "down")]
+ENTRIES = [
+    ("side", "till", (0, 5, "half_up"), 2), ("set", "shop", ("till",)), ("log", "may", "shop", (("till", "0.17"),)),
+]
+
+# For each function something to pass for each argument; no two of them may stand in the place of one another.
+CALLS = {
+    "check_side": [(0, 10, "up")], "figure_of": [(0, 10, "up"), 25], "handed": [(0, 10, "up"), 25],
+    "stands": [(0, 10, "up"), 30], "span": [(0, 10, "up"), 2], "back": [(0, 10, "up"), 25],
+    "mirror": [(3, 10, "up")], "form": [(13, 5, "half_even")], "text_of": [-1234567, 2, True, True, 20],
+    "read_text": ["-0.05"], "scaled": [[((0, 1), (1, 100), "half_up"), ((0, 1), (1, 119), "half_up")]],
+    "reach": [SIDES, 7], "climb": [SIDES, 7], "greatest_rise": [SIDES], "unneeded": [SIDES],
+    "along": [SIDES, [0, 1], 7], "before": [SIDES, 10], "route": [SIDES, 7, 3],
+    "exchange": [(0, 10, "half_even"), (0, 100, "half_up"), 0], "fault": [SIDES, [7, 0]], "hops": [SIDES, [7, 10, 0]],
+    "settled": [(0, 10, "up"), (0, 4, "up"), 1], "pace": [(0, 4, "down"), (1, 6, "down")], "within": [SIDES, 7, 1],
+    "efforts": [SIDES, 7], "meeting": [SIDES, 4, 11], "fewest_places": [[(0, 10, "half_up")], (0, 100, "half_up")],
+    "once": [SIDES, 7], "order_matters": [SIDES, 7], "calm": [[(0, 10, "up"), (5, 10, "up")]],
+    "paper_text": [ENTRIES], "read_paper": ["side till 5 half_up places 2"], "log_of": [ENTRIES, "may"],
+    "text_at": [ENTRIES, "till", 87], "outcomes": [SIDES, 7], "rests": [SIDES, 7],
+}
+
+
+def names_in(signature):
+    """Return the names of the arguments in a signature."""
+    parts = [part.strip().split("=")[0] for part in signature.strip("()").split(",")]
+    return [part for part in parts if part not in ("", "*", "self")]
 
 
 class InterfaceTest(unittest.TestCase):
@@ -72,6 +134,52 @@ class InterfaceTest(unittest.TestCase):
                 self.assertTrue(inspect.isfunction(function), name)
                 self.assertEqual(str(inspect.signature(function)), signature, name)
                 self.assertEqual(function.__module__, file, name)
+
+
+    def test_each_class_has_its_methods_of_its_own(self):
+        for file, classes in CLASSES.items():
+            module = importlib.import_module(file)
+            for name, methods in classes.items():
+                kind = getattr(module, name)
+                self.assertEqual((kind.__module__, kind.__name__), (file, name))
+                for method, signature in methods.items():
+                    self.assertIn(method, vars(kind), name)
+                    if signature is None:
+                        self.assertIsInstance(vars(kind)[method], property)
+                    else:
+                        self.assertEqual(str(inspect.signature(vars(kind)[method])), signature, (name, method))
+
+    def test_functions_are_called_with_names_in_another_order(self):
+        for file, functions in INTERFACE.items():
+            module = importlib.import_module(file)
+            for name, signature in functions.items():
+                if name == "try_all":
+                    continue
+                row = CALLS[name]
+                named = list(zip(names_in(signature), row))
+                self.assertEqual(len(named), len(names_in(signature)))
+                answer = getattr(module, name)(**dict(reversed(named)))
+                bare = row[:2] if name == "text_of" else row
+                self.assertEqual(answer, getattr(module, name)(*bare, **dict(named[len(bare):])), name)
+
+    def test_classes_and_methods_are_called_with_names_in_another_order(self):
+        from handedtext.desk import Trace, try_all
+        from handedtext.values import Side, Sides
+        self.assertEqual(Side(data=(0, 10, "up"))(value=7), 10)
+        sides = Sides(sides=SIDES)
+        self.assertEqual((sides(value=7), sides.lead_to(value=3, start=7)), ((3, 10), [1]))
+        trace = Trace(sides=SIDES)
+        trace.see(value=10)
+        trace.slip(value=7, number=0)
+        self.assertEqual((trace[0], trace[1], trace.allows(value=3)), (7, 10, True))
+        trace.drop(number=0)
+        try_all(deeds=[("see", 3)], trace=trace)
+        self.assertEqual((trace[0], trace[1]), (10, 3))
+
+    def test_errors_are_called_with_names_in_another_order(self):
+        from handedtext.errors import InvalidLine, InvalidText
+        error = InvalidLine(reason="name", line=7)
+        self.assertEqual((error.line, error.reason, InvalidText(at=3).at), (7, "name", 3))
 
 
 class ExamplesTest(unittest.TestCase):
@@ -144,6 +252,30 @@ class ExamplesTest(unittest.TestCase):
             [within(sides, 7, 1), within(sides, 7, 2), meeting(sides, 4, 11),
              fewest_places([(0, 10, 'half_up')], (0, 100, 'half_up'))],
             [(3, 10), (3, 10), [1], 1])
+
+    def test_values(self):
+        from handedtext.values import Side
+        sides = Side((0, 10, 'up')) | Side((3, 10, 'down'))
+        self.assertEqual(
+            [sides(7), sides[10], Side((20, 10, 'up')) in sides, len(sides - Side((0, 10, 'up')))],
+            [(3, 10), (1, 12), True, 1])
+
+    def test_papers(self):
+        from handedtext.papers import log_of, paper_text, read_paper, text_at
+        text = 'side till 5 half_up places 2\nside book 100 half_even places 0 at 50\nset shop till book\n'
+        text = text + 'log may shop\ntill 0.17\nbook 3\nend\n'
+        entries = read_paper(text)
+        self.assertEqual(
+            [log_of(entries, 'may'), text_at(entries, 'till', 87), paper_text(entries) == text],
+            [([(0, 5, 'half_up'), (50, 100, 'half_even')], [85, 350]), '0.17', True])
+
+    def test_desk(self):
+        from handedtext.desk import Trace, try_all
+        trace = Trace([(0, 10, 'up'), (3, 10, 'down')])
+        self.assertIsNone(try_all(trace, [('see', 10), ('see', 3), ('slip', 0, 7)]))
+        self.assertEqual(
+            [len(trace), trace[0], trace.starts(), trace.allows(20)],
+            [3, 7, (7, 7), False])
 
     def test_readme(self):
         failed, tried = doctest.testfile(str(README), module_relative=False, verbose=False)

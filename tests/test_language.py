@@ -29,6 +29,12 @@ METHODS = set(
     " casefold center expandtabs removeprefix removesuffix rindex isascii isdecimal isnumeric istitle isidentifier"
     " isprintable add discard sort __init__".split())
 
+OPERATORS = {
+    "__eq__", "__neg__", "__or__", "__sub__", "__contains__", "__getitem__", "__len__",
+}
+
+DOUBLE_UNDERSCORES = OPERATORS | {"__init__", "__iter__", "__call__", "__enter__", "__exit__"}
+
 BARRED_NODES = (
     ast.Import, ast.Global, ast.AsyncFunctionDef, ast.AsyncFor, ast.AsyncWith, ast.Await, ast.Div, ast.MatMult,
 )
@@ -175,6 +181,50 @@ class LanguageTest(unittest.TestCase):
                     for sign, right in zip(node.ops, node.comparators):
                         if isinstance(sign, (ast.Is, ast.IsNot)):
                             self.assertIn(ast.unparse(right), ("None", "True", "False", "self"), path)
+
+    def test_double_underscore_methods(self):
+        for path, tree in trees():
+            for kind in ast.walk(tree):
+                if isinstance(kind, ast.ClassDef):
+                    names = [node.name for node in kind.body if isinstance(node, ast.FunctionDef)]
+                    self.assertEqual(sorted(set(names)), sorted(names), path)
+                    self.assertLessEqual({name for name in names if name.startswith("__")}, DOUBLE_UNDERSCORES, path)
+                    if "__getitem__" in names:
+                        rows = kind.body[1 + names.index("__iter__")].body
+                        self.assertEqual([node.__class__ for node in rows], [ast.Raise], path)
+                if isinstance(kind, (ast.FunctionDef, ast.ClassDef)):
+                    for decorator in kind.decorator_list:
+                        self.assertEqual(ast.unparse(decorator), "property", path)
+
+    def test_what_a_class_with_operators_bars(self):
+        for path, tree in trees():
+            for node in ast.walk(tree):
+                if isinstance(node, ast.FunctionDef) and node.name == "__exit__":
+                    for part in ast.walk(node):
+                        self.assertNotIsInstance(part, (ast.Call, ast.BinOp, ast.UnaryOp, ast.Subscript), path)
+                if isinstance(node, ast.FunctionDef) and node.name in OPERATORS:
+                    for part in ast.walk(node):
+                        stored = isinstance(getattr(part, "ctx", None), (ast.Store, ast.Del))
+                        self.assertFalse(stored and not isinstance(part, (ast.Name, ast.Tuple)), path)
+                if isinstance(node, ast.Call) and isinstance(node.func, ast.Attribute):
+                    self.assertNotEqual(node.func.attr, "sort", path)
+                if isinstance(node, ast.Call) and isinstance(node.func, ast.Name):
+                    self.assertNotIn(node.func.id, ("reversed", "getattr", "setattr", "print", "open"), path)
+
+    def test_no_name_is_a_method_and_an_attribute(self):
+        methods, stored = set(), set()
+        for path, tree in trees():
+            for node in ast.walk(tree):
+                if isinstance(node, ast.ClassDef):
+                    methods.update(part.name for part in node.body if isinstance(part, ast.FunctionDef))
+                if isinstance(node, ast.Attribute) and isinstance(node.ctx, ast.Store):
+                    stored.add(node.attr)
+                    root = node.value
+                    while isinstance(root, ast.Attribute):
+                        root = root.value
+                    self.assertEqual(ast.unparse(root), "self", path)
+        self.assertEqual(methods & stored, set())
+        self.assertEqual(stored & (METHODS | BARRED_NAMES | {"args", "encode", "decode", "hex", "format"}), set())
 
     def test_names(self):
         # Python's prompt, and so doctest, binds `_` among the builtins.

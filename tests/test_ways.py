@@ -128,6 +128,17 @@ class BeforeTest(unittest.TestCase):
                 ([(0, 10 ** 30, "down"), (5, 10 ** 30, "down")], 5, (5, None))):
             self.assertEqual(before(sides, value), answer, (sides, value))
 
+    def test_values_greater_by_a_period_are_told_alike(self):
+        for sides in some_sides(17, 150, most_step=9) + [SLOW, [(10 ** 40, HUGE, "up"), (-7, 10 ** 30, "half_even")]]:
+            many = period(sides)
+            for value in (25385, 25389):
+                ends = before(sides, value)
+                for rounds in (1, -3, 10 ** 90, -10 ** 90):
+                    told = tuple(None if end is None else end + rounds * many for end in ends)
+                    self.assertEqual(before(sides, value + rounds * many), told)
+                    self.assertEqual(route(sides, value - 2 + rounds * many, value + rounds * many),
+                                     route(sides, value - 2, value))
+
     def test_thousand_hand_overs_and_one_more(self):
         for sides, value, many in ((SLOW, 25389, 1000), (SLOW, 25420, 1001)):
             hops = hops_by_search(sides, value)
